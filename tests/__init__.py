@@ -1,0 +1,1 @@
+"""Tests of ringvouch, for python3 -m unittest."""

@@ -1,0 +1,146 @@
+"""Rules for the tests, and slow plain searches to hold the program's answers against."""
+
+import itertools
+
+from ringvouch.rules import Rule, one_way_rule, plain_rule
+
+
+class Strange:
+    """Something that no function should look into: asked anything, it fails."""
+
+    __hash__ = None
+
+    def __eq__(self, other):
+        raise AssertionError("compared")
+
+    def __lt__(self, other):
+        raise AssertionError("ordered")
+
+    def __bool__(self):
+        raise AssertionError("asked for its truth")
+
+    def __len__(self):
+        raise AssertionError("asked for its length")
+
+    def __iter__(self):
+        raise AssertionError("iterated over")
+
+    def __index__(self):
+        raise AssertionError("taken for a number")
+
+
+def nested(kind, deep):
+    """Something in something in something, so deep."""
+    thing = kind()
+    for _ in range(deep):
+        thing = kind((thing,))
+    return thing
+
+
+def oddities():
+    """Things of all kinds that are neither rules' values nor rings."""
+    return [
+        None, True, False, 0, 1, -1, 10 ** 29, "", "0", "01", b"", b"\x00\x01", [], [0], {}, {0: 0}, set(), {0},
+        frozenset((0,)), (), (None,), (True,), ("0",), ((),), ([],), ({},), (set(),), object(), Strange(),
+        (Strange(),), ((Strange(), Strange()),), range(2), iter((0, 1)), int, len, 1j, nested(tuple, 30),
+        nested(list, 30), (0, nested(tuple, 29)), Rule((0,), ()),
+    ]
+
+
+def involutions(many):
+    """All tuples that tell mirrors of so many marks."""
+    return [
+        mirrors for mirrors in itertools.permutations(range(many))
+        if all(mirrors[mirrors[mark]] == mark for mark in range(many))
+    ]
+
+
+def bonds(mirrors):
+    """All steps that there could be, each together with its mirror step."""
+    pairs = itertools.product(range(len(mirrors)), repeat=2)
+    return sorted({tuple(sorted({(a, b), (mirrors[b], mirrors[a])})) for a, b in pairs})
+
+
+def rule_of(mirrors, chosen):
+    """The rule with these mirrors and those bonds whose bits are set in chosen."""
+    steps = [step for at, bond in enumerate(bonds(mirrors)) if chosen >> at & 1 for step in bond]
+    return Rule(tuple(mirrors), tuple(sorted(steps)))
+
+
+def all_rules(many):
+    """Every rule of so many marks."""
+    return [
+        rule_of(mirrors, chosen)
+        for mirrors in involutions(many) for chosen in range(2 ** len(bonds(mirrors)))
+    ]
+
+
+def small_rules():
+    """Every rule of one, two and three marks."""
+    return all_rules(1) + all_rules(2) + all_rules(3)
+
+
+def scattered_rules(many, wanted):
+    """Some rules of so many marks, thin and dense ones, always the same ones."""
+    rules = []
+    state = 12345 + many
+    mirrors = involutions(many)
+    for at in range(wanted):
+        its = mirrors[at * 7 % len(mirrors)]
+        chosen = 0
+        for bond in range(len(bonds(its))):
+            state = (state * 1103515245 + 12345) % 2 ** 31
+            if state // 2 ** 16 % (2 + at % 6) == 0:
+                chosen += 2 ** bond
+        rules.append(rule_of(its, chosen))
+    return rules
+
+
+def great_rules():
+    """Rules of four to eight marks."""
+    return [rule for many in range(4, 9) for rule in scattered_rules(many, 12)]
+
+
+def wheel(many, turn):
+    """The rule of one wheel of so many marks, each behind the one ahead; its part's turning is turn."""
+    return Rule(
+        tuple((turn - mark) % many for mark in range(many)),
+        tuple(sorted((mark, (mark + 1) % many) for mark in range(many))),
+    )
+
+
+def crowd(many):
+    """The plain rule by which every mark may stand behind every one."""
+    return plain_rule(many, tuple(itertools.product(range(many), repeat=2)))
+
+
+def chain():
+    """Loops 0 and 2, a step from 0 by 1, which is in no part, to 2; and all that from the other side."""
+    return one_way_rule(3, ((0, 0), (0, 1), (1, 2), (2, 2)))
+
+
+def is_walk(rule, marks):
+    """Whether each of the marks may stand right behind the one ahead, by the steps themselves."""
+    return all(pair in rule.steps for pair in zip(marks, marks[1:]))
+
+
+def all_walks(rule, n):
+    """All walks of n steps, rising."""
+    walks = [(mark,) for mark in range(len(rule.mirrors))]
+    for _ in range(n):
+        walks = [walk + (b,) for walk in walks for a, b in rule.steps if a == walk[-1]]
+    return sorted(walks)
+
+
+def all_rings(rule, n):
+    """All tuples of n marks that are rings, rising, found among all tuples there are."""
+    every = itertools.product(range(len(rule.mirrors)), repeat=n)
+    return [marks for marks in every if is_walk(rule, marks + marks[:1])]
+
+
+def ends(rule, one, n):
+    """The marks at which walks of n steps from mark one end."""
+    here = {one}
+    for _ in range(n):
+        here = {b for a, b in rule.steps if a in here}
+    return here

@@ -1,0 +1,39 @@
+"""The interface: names and arguments, each defined in the file that lists it."""
+
+import importlib
+import inspect
+import unittest
+
+FUNCTIONS = {
+    "rules": ("plain_rule(many, pairs)", "one_way_rule(many, pairs)"),
+    "rings": (
+        "is_ring(rule, thing)", "places(ring)", "mark_at(ring, place)", "around(ring, place, far)", "turned(ring, by)",
+        "mirrored(rule, ring)", "spelled(ring)",
+    ),
+}
+CLASSES = {"rules": {"Rule": ("__init__(self, mirrors, steps)", "marks(self)", "mirror(self, mark)",
+                              "behind(self, mark)")}}
+
+
+class InterfaceTest(unittest.TestCase):
+    def agrees(self, owner, module, wanted):
+        name = wanted.partition("(")[0]
+        thing = vars(owner)[name]
+        self.assertEqual(name + str(inspect.signature(thing)), wanted)
+        self.assertEqual(thing.__module__, module.__name__)
+
+    def test_functions(self):
+        for name, rows in FUNCTIONS.items():
+            module = importlib.import_module("ringvouch." + name)
+            for wanted in rows:
+                with self.subTest(wanted):
+                    self.agrees(module, module, wanted)
+
+    def test_classes(self):
+        for name, classes in CLASSES.items():
+            module = importlib.import_module("ringvouch." + name)
+            for kind, rows in classes.items():
+                self.assertEqual(getattr(module, kind).__module__, module.__name__)
+                for wanted in rows:
+                    with self.subTest(wanted):
+                        self.agrees(getattr(module, kind), module, wanted)
