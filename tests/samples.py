@@ -2,6 +2,7 @@
 
 import itertools
 
+from ringvouch.parts import parts
 from ringvouch.rules import Rule, one_way_rule, plain_rule
 
 
@@ -144,3 +145,31 @@ def ends(rule, one, n):
     for _ in range(n):
         here = {b for a, b in rule.steps if a in here}
     return here
+
+
+def closed_sizes(rule, marks, most):
+    """The numbers to most of the steps of walks that come back to one of the marks, gone step by step."""
+    return [n for n in range(1, most + 1) if any(mark in ends(rule, mark, n) for mark in marks)]
+
+
+def two_wheels(many, other):
+    """One part of two wheels, of so many marks and of so many others, that have mark 0 alone together."""
+    steps = {(mark, (mark + 1) % many) for mark in range(many)}
+    ways = [0] + list(range(many, many + other - 1))
+    steps |= {(a, b) for a, b in zip(ways, ways[1:] + [0])}
+    mirrors = [-mark % many for mark in range(many)] + list(reversed(ways[1:]))
+    return Rule(tuple(mirrors), tuple(sorted(steps)))
+
+
+def part_rules():
+    """Rules with parts of all sorts: none, several, one leading on to another, of each period to eight."""
+    rules = [wheel(many, turn) for many in range(1, 9) for turn in range(many)]
+    rules += [one_way_rule(many, tuple((k, (k + 1) % many) for k in range(many))) for many in range(1, 5)]
+    rules += [two_wheels(many, other) for many in range(1, 8) for other in range(1, 9 - many)]
+    rules += [chain(), crowd(8), crowd(2), plain_rule(8, ()), plain_rule(8, tuple((k, k) for k in range(8)))]
+    return rules + great_rules()
+
+
+def each_part(rules):
+    """Each part of the rules: the rule, the part's number, its marks."""
+    return [(rule, number, part) for rule in rules for number, part in enumerate(parts(rule))]

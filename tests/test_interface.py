@@ -10,6 +10,12 @@ FUNCTIONS = {
         "is_ring(rule, thing)", "places(ring)", "mark_at(ring, place)", "around(ring, place, far)", "turned(ring, by)",
         "mirrored(rule, ring)", "spelled(ring)",
     ),
+    "parts": ("parts(rule)", "part_of(rule, mark)", "mirror_part(rule, part)"),
+    "classing": ("period(rule, part)", "classes(rule, part)", "turning(rule, part)"),
+    "sizes": (
+        "is_size(rule, part, n)", "sizes(rule, part, most)", "how_many(rule, part, n)", "least_ring(rule, part, n)",
+    ),
+    "walks": ("has_walk(rule, one, other, n)", "least_walk(rule, one, other, n)"),
 }
 CLASSES = {"rules": {"Rule": ("__init__(self, mirrors, steps)", "marks(self)", "mirror(self, mark)",
                               "behind(self, mark)")}}
