@@ -37,3 +37,8 @@ def mirror_part(rule, part):
     """The number of the part of the mirrors of this part's marks."""
     mark = parts(rule)[part][0]
     return part_of(rule, rule.mirror(mark))
+
+
+def is_own_mirror(rule, part):
+    """Whether the part is its own mirror."""
+    return mirror_part(rule, part) == part

@@ -8,9 +8,9 @@ def has_walk(rule, one, other, n):
     return n >= 0 and other in ends_of_walks(rule, n)[one]
 
 
-def beginnings(rule, other, n):
-    """For each number of steps from 0 to n: the marks from which so many lead to mark other."""
-    found = [(other,)]
+def beginnings(rule, ends, n):
+    """For each number of steps from 0 to n: the marks from which so many lead to one of the ends."""
+    found = [tuple(ends)]
     for at in range(n):
         ahead = found[at]
         found.append(tuple([mark for mark in range(rule.marks()) if leads_into(rule, mark, ahead)]))
@@ -22,12 +22,20 @@ def leads_into(rule, mark, marks):
     return any([coming in marks for coming in rule.behind(mark)])
 
 
-def least_walk(rule, one, other, n):
-    """The least walk of n steps from mark one to mark other, None where there is none."""
-    if not has_walk(rule, one, other, n):
+def least_between(rule, starts, ends, n):
+    """The least walk of n steps from one of the starts to one of the ends, None where there is none."""
+    begun = beginnings(rule, ends, n)
+    able = [mark for mark in starts if mark in begun[n]]
+    if len(able) == 0:
         return None
-    begun = beginnings(rule, other, n)
-    walk = [one]
+    walk = [min(able)]
     for left in range(n - 1, -1, -1):
         walk.append(min([mark for mark in rule.behind(walk[-1]) if mark in begun[left]]))
     return tuple(walk)
+
+
+def least_walk(rule, one, other, n):
+    """The least walk of n steps from mark one to mark other, None where there is none."""
+    if n < 0:
+        return None
+    return least_between(rule, (one,), (other,), n)

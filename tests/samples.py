@@ -2,6 +2,7 @@
 
 import itertools
 
+from ringvouch.classing import classes, period
 from ringvouch.parts import parts
 from ringvouch.rules import Rule, one_way_rule, plain_rule
 
@@ -173,3 +174,36 @@ def part_rules():
 def each_part(rules):
     """Each part of the rules: the rule, the part's number, its marks."""
     return [(rule, number, part) for rule in rules for number, part in enumerate(parts(rule))]
+
+
+def plain_axes(rule, marks):
+    """All s at which the marks as a ring are mirrored, each tried at each place."""
+    n = len(marks)
+    return tuple(
+        s for s in range(2 * n)
+        if all(marks[(s - place) % n] == rule.mirrors[marks[place]] for place in range(n))
+    )
+
+
+def plain_axis_class(rule, number, marks, s):
+    """The axis class at s of a ring in the part of that number."""
+    of = dict(zip(parts(rule)[number], classes(rule, number)))
+    rest = 2 * period(rule, number)
+    return 2 * of[marks[s // 2]] % rest if s % 2 == 0 else (2 * of[marks[(s - 1) // 2]] + 1) % rest
+
+
+def half_from(marks, s):
+    """The marks of a ring from the half place s on to the one that is as many halves on as it has places."""
+    n = len(marks)
+    return tuple(marks[at // 2 % n] for at in range(s, s + n + 1) if at % 2 == 0)
+
+
+def mirror_halves(rule, n):
+    """For each part's number and axis class: the halves of all rings of n places from such axes on."""
+    found = {}
+    for ring in all_rings(rule, n):
+        number = [at for at, part in enumerate(parts(rule)) if ring[0] in part][0]
+        for s in plain_axes(rule, ring):
+            key = number, plain_axis_class(rule, number, ring, s)
+            found.setdefault(key, []).append(half_from(ring, s))
+    return found

@@ -15,7 +15,14 @@ FUNCTIONS = {
     "sizes": (
         "is_size(rule, part, n)", "sizes(rule, part, most)", "how_many(rule, part, n)", "least_ring(rule, part, n)",
     ),
+    "axes": ("axes(rule, marks)", "axis_classes(rule, part)"),
+    "halves": ("is_mirror_size(rule, part, first, n)", "least_half(rule, part, first, n)"),
     "walks": ("has_walk(rule, one, other, n)", "least_walk(rule, one, other, n)"),
+    "spans": ("span(rule, part)", "doublings(span)"),
+    "names": (
+        "least_period(marks)", "least_turn(marks)", "read_back(rule, marks)", "lesser(rule, marks)",
+        "is_tame(span, marks)", "is_centre(rule, marks)",
+    ),
 }
 CLASSES = {"rules": {"Rule": ("__init__(self, mirrors, steps)", "marks(self)", "mirror(self, mark)",
                               "behind(self, mark)")}}
