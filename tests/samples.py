@@ -1,10 +1,14 @@
 """Rules for the tests, and slow plain searches to hold the program's answers against."""
 
+import functools
 import itertools
 
-from ringvouch.classing import classes, period
-from ringvouch.parts import parts
+from ringvouch.axes import axis_classes
+from ringvouch.classing import classes, period, turning
+from ringvouch.halves import is_mirror_size
+from ringvouch.parts import mirror_part, parts
 from ringvouch.rules import Rule, one_way_rule, plain_rule
+from ringvouch.sizes import is_size
 
 
 class Strange:
@@ -207,3 +211,146 @@ def mirror_halves(rule, n):
             key = number, plain_axis_class(rule, number, ring, s)
             found.setdefault(key, []).append(half_from(ring, s))
     return found
+
+
+def far_rules():
+    """Two rules of one part each: the least size of the first one that the second one lacks is 7."""
+    steps = {(k, (k + 1) % 6) for k in range(6)} | {(3, 1), (5, 3), (5, 1), (0, 6), (6, 0)}
+    return two_wheels(2, 3), Rule((0, 5, 4, 3, 2, 1, 6), tuple(sorted(steps)))
+
+
+def far_mirror_rules():
+    """Two rules whose part 1 and part 0 differ by mirror rings of no fewer than 16 places."""
+    one = Rule((2, 5, 0, 3, 6, 1, 4, 7), (
+        (0, 0), (0, 6), (1, 3), (2, 2), (3, 4), (3, 5), (4, 1), (4, 2), (4, 4), (5, 1), (5, 6), (6, 3), (6, 6), (7, 7),
+    ))
+    other = Rule((2, 6, 0, 3, 4, 7, 1, 5), (
+        (0, 0), (0, 6), (1, 0), (1, 2), (1, 3), (1, 4), (2, 2), (2, 5), (2, 6), (3, 6), (3, 7), (4, 1), (4, 6), (5, 3),
+        (6, 4), (7, 0), (7, 5),
+    ))
+    return one, other
+
+
+def gaps_alone():
+    """Two marks that are each other's mirrors, all steps: axes go through gaps alone."""
+    return Rule((1, 0), tuple(itertools.product(range(2), repeat=2)))
+
+
+def places_alone():
+    """A mark that is its own mirror between two loops: axes go through places alone."""
+    return Rule((0, 2, 1), ((0, 1), (0, 2), (1, 0), (1, 1), (2, 0), (2, 2)))
+
+
+def no_axes():
+    """A part of period 2 and turning 0 that is its own mirror, though none of its rings is mirrored anywhere."""
+    return Rule((1, 0, 3, 2), ((0, 2), (0, 3), (1, 2), (1, 3), (2, 0), (2, 1), (3, 0), (3, 1)))
+
+
+def fitting_rules():
+    """Rules that fit one another or not for all reasons there are."""
+    rules = [wheel(many, turn) for many in (1, 2, 3, 4, 6, 8) for turn in range(min(many, 3))]
+    rules += [one_way_rule(many, tuple((k, (k + 1) % many) for k in range(many))) for many in (1, 2, 4)]
+    rules += [two_wheels(2, 3), two_wheels(3, 5), two_wheels(2, 4), two_wheels(4, 5), chain(), crowd(2)]
+    rules += [gaps_alone(), places_alone(), plain_rule(2, ()), plain_rule(2, ((0, 1),))]
+    rules += [plain_rule(4, ((0, 1), (2, 3))), no_axes(), one_way_rule(2, ((0, 1), (1, 0)))]
+    rules += [plain_rule(3, ((0, 0), (0, 1), (1, 2))), plain_rule(4, ((0, 1), (1, 2), (2, 3), (3, 0)))]
+    rules += [*far_rules(), *far_mirror_rules(), plain_rule(5, ((0, 0), (1, 2), (3, 4), (4, 4)))]
+    return rules + scattered_rules(3, 6) + scattered_rules(5, 4) + scattered_rules(8, 4)
+
+
+class Portrait:
+    """What there is to know of a part, to great numbers, asked one by one."""
+
+    MOST = 160
+
+    def __init__(self, rule, number):
+        self.period = period(rule, number)
+        self.turning = turning(rule, number)
+        self.mirror = mirror_part(rule, number)
+        self.is_own_mirror = self.mirror == number
+        self.sizes = {n for n in range(1, self.MOST) if is_size(rule, number, n)}
+        self.mirror_sizes = {
+            first: {n for n in range(1, self.MOST) if is_mirror_size(rule, number, first, n)}
+            for first in axis_classes(rule, number)
+        }
+
+
+@functools.cache
+def portraits_of(mirrors, steps):
+    rule = Rule(mirrors, steps)
+    return [Portrait(rule, number) for number in range(len(parts(rule)))]
+
+
+def portraits(rule):
+    """The portrait of each part of the rule."""
+    return portraits_of(rule.mirrors, rule.steps)
+
+
+def plain_fits(c, d, shift):
+    """Whether the part of portrait c fits that of portrait d, by the words of point 12."""
+    if shift >= d.period or not c.sizes <= d.sizes:
+        return False
+    if not c.is_own_mirror:
+        return True
+    if not d.is_own_mirror or d.turning != (c.turning + 2 * shift) % d.period:
+        return False
+    return all(
+        its <= d.mirror_sizes.get((first + 2 * shift) % (2 * d.period), set())
+        for first, its in c.mirror_sizes.items()
+    )
+
+
+def plain_pairs(c, others):
+    """All pairs of a part and a shift by which the part of portrait c fits one of the others."""
+    return [
+        (its, shift) for its, d in enumerate(others) for shift in range(d.period) if plain_fits(c, d, shift)
+    ]
+
+
+def is_plain_plan(rule, other, plan):
+    """Whether a tuple of as many pairs of whole numbers as the rule has parts is a plan, by the words of point 13."""
+    ours, theirs = portraits(rule), portraits(other)
+    for c, (its, shift) in zip(ours, plan):
+        d = theirs[its]
+        if not plain_fits(c, d, shift):
+            return False
+        if not c.is_own_mirror and plan[c.mirror] != (d.mirror, (d.turning - c.turning - shift) % d.period):
+            return False
+    return True
+
+
+def is_plain_ring(rule, part, marks):
+    """Whether a tuple of marks is a ring in the part of that number."""
+    return len(marks) > 0 and marks[0] in parts(rule)[part] and is_walk(rule, marks + marks[:1])
+
+
+def is_plain_reason(rule, part, other, its, reason):
+    """Whether what has the form of a reason is one, by the words of point 14."""
+    c, d = portraits(rule)[part], portraits(other)[its]
+    word = reason[0]
+    if word == "size":
+        return is_plain_ring(rule, part, reason[1]) and len(reason[1]) not in d.sizes
+    if word == "side":
+        return c.is_own_mirror and not d.is_own_mirror
+    if not c.is_own_mirror or not d.is_own_mirror:
+        return False
+    if word == "way":
+        marks = reason[1]
+        if len(marks) == 0 or not set(marks) <= set(parts(rule)[part]) or not is_walk(rule, marks):
+            return False
+        return marks[-1] == rule.mirrors[marks[0]] and d.period % 2 == 0 and (len(marks) - 1 + d.turning) % 2 == 1
+    shifts = [shift for shift in range(d.period) if d.turning == (c.turning + 2 * shift) % d.period]
+    if c.period % d.period != 0 or len(reason[1]) == 0 or len(reason[1]) != len(shifts):
+        return False
+    for shift, (marks, s) in zip(shifts, reason[1]):
+        if not is_plain_ring(rule, part, marks) or s not in plain_axes(rule, marks):
+            return False
+        wanted = (plain_axis_class(rule, part, marks, s) + 2 * shift) % (2 * d.period)
+        if len(marks) in d.mirror_sizes.get(wanted, ()):
+            return False
+    return True
+
+
+def kind_of(thing):
+    """The kinds of something and of all in it: two that are equal may differ by these, as 1 and True do."""
+    return tuple(kind_of(inner) for inner in thing) if isinstance(thing, tuple) else type(thing)

@@ -8,7 +8,8 @@ from ringvouch.classing import classes, period, turning
 from ringvouch.parts import mirror_part, parts
 from ringvouch.rules import Rule, one_way_rule, plain_rule
 from tests.samples import (
-    all_rings, chain, crowd, each_part, part_rules, plain_axes, plain_axis_class, scattered_rules, small_rules, wheel,
+    all_rings, chain, crowd, each_part, no_axes, part_rules, plain_axes, plain_axis_class, scattered_rules, small_rules,
+    wheel,
 )
 
 SWAPPED = one_way_rule(2, ((0, 1), (1, 0)))
@@ -120,11 +121,8 @@ class AxisClassesTest(unittest.TestCase):
         self.assertEqual(axis_classes(rule, 0), (1,))
 
     def test_none_though_it_is_its_own_mirror(self):
-        rule = Rule((1, 0), ((0, 0), (1, 1)))
-        self.assertEqual([axis_classes(rule, part) for part in (0, 1)], [(), ()])
-        rule = Rule((1, 0, 3, 2), tuple(sorted(((0, 2), (2, 0), (3, 1), (1, 3), (2, 1), (0, 3), (1, 2), (3, 0)))))
-        self.assertEqual(mirror_part(rule, 0), 0)
-        self.assertEqual(axis_classes(rule, 0), ())
+        self.assertEqual(mirror_part(no_axes(), 0), 0)
+        self.assertEqual(axis_classes(no_axes(), 0), ())
 
     def test_of_parts_that_are_not_their_own_mirrors(self):
         # Mark 0 has its mirror right behind it, but that is no mark of its part.

@@ -10,7 +10,7 @@ from ringvouch.parts import parts
 from ringvouch.rings import is_ring
 from ringvouch.rules import Rule, plain_rule
 from tests.samples import (
-    chain, crowd, each_part, mirror_halves, part_rules, plain_axes, plain_axis_class, scattered_rules, small_rules,
+    chain, crowd, mirror_halves, part_rules, plain_axes, plain_axis_class, scattered_rules, small_rules,
     two_wheels, wheel,
 )
 

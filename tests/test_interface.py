@@ -19,6 +19,9 @@ FUNCTIONS = {
     "halves": ("is_mirror_size(rule, part, first, n)", "least_half(rule, part, first, n)"),
     "walks": ("has_walk(rule, one, other, n)", "least_walk(rule, one, other, n)"),
     "spans": ("span(rule, part)", "doublings(span)"),
+    "fits": ("fits(rule, part, other, its, shift)",),
+    "judging": ("judged(rule, other)",),
+    "looks": ("shows_plan(rule, other, thing)", "shows_paper(rule, other, thing)"),
     "names": (
         "least_period(marks)", "least_turn(marks)", "read_back(rule, marks)", "lesser(rule, marks)",
         "is_tame(span, marks)", "is_centre(rule, marks)",
