@@ -354,3 +354,144 @@ def is_plain_reason(rule, part, other, its, reason):
 def kind_of(thing):
     """The kinds of something and of all in it: two that are equal may differ by these, as 1 and True do."""
     return tuple(kind_of(inner) for inner in thing) if isinstance(thing, tuple) else type(thing)
+
+
+class Dice:
+    """Numbers that seem to come by chance, always the same ones."""
+
+    def __init__(self, seed):
+        self.state = seed * 7919 + 1
+
+    def below(self, many):
+        self.state = (self.state * 6364136223846793005 + 1442695040888963407) % 2 ** 64
+        return (self.state >> 33) % many
+
+    def one_of(self, things):
+        return things[self.below(len(things))]
+
+
+def part_walk(rule, mark, n, dice):
+    """A walk of n steps from the mark within its part, as a list."""
+    walk = [mark]
+    inner = parts(rule)[part_number(rule, mark)]
+    for _ in range(n):
+        walk.append(dice.one_of([b for a, b in rule.steps if a == walk[-1] and b in inner]))
+    return walk
+
+
+def part_number(rule, mark):
+    return [number for number, part in enumerate(parts(rule)) if mark in part][0]
+
+
+def short_walk(rule, one, other):
+    """A shortest walk of one step or more from mark one to mark other of its part, without its first mark."""
+    walks = [(one,)]
+    while True:
+        walks = [walk + (b,) for walk in walks for a, b in rule.steps if a == walk[-1]]
+        # Of the walks to each mark one is enough.
+        walks = list({walk[-1]: walk for walk in walks}.values())
+        for walk in walks:
+            if walk[-1] == other:
+                return list(walk[1:])
+
+
+def closed(rule, walk):
+    """A ring that begins with the walk."""
+    return walk + short_walk(rule, walk[-1], walk[0])[:-1]
+
+
+def back_of(rule, marks):
+    """The mirrors of the marks from behind, as a list."""
+    return [rule.mirrors[mark] for mark in reversed(marks)]
+
+
+def axis_spots(rule, number):
+    """Each mark of a part at which an axis can stand, and 0 where it goes through it, 1 where right behind it."""
+    inner = parts(rule)[number]
+    through = [(mark, 0) for mark in inner if rule.mirrors[mark] == mark]
+    able = [mark for mark in inner if rule.mirrors[mark] in inner]
+    return through + [(mark, 1) for mark in able if (mark, rule.mirrors[mark]) in rule.steps]
+
+
+def mixed_ring(rule, number, wide, dice):
+    """The marks of a ring in the part, of some stretches that are wild, tame or mirrored; wide is about the span."""
+    inner = parts(rule)[number]
+    walk = [dice.one_of(inner)]
+    for _ in range(1 + dice.below(4)):
+        sort = dice.below(4)
+        if sort == 0:
+            walk += part_walk(rule, walk[-1], dice.below(10 * wide), dice)[1:]
+        elif sort == 1:
+            cycle = closed(rule, part_walk(rule, walk[-1], dice.below(dice.one_of((2, 4, 2 * wide + 2))), dice))
+            most = dice.one_of((3, 12 * wide, 40 * wide))
+            walk += (cycle[1:] + cycle[:1]) * (1 + dice.below(1 + most // len(cycle)))
+        elif sort == 2 and axis_spots(rule, number) and len(walk) < 300:
+            mark, gap = dice.one_of(axis_spots(rule, number))
+            walk += short_walk(rule, walk[-1], mark)
+            walk += back_of(rule, walk)[1 - gap:]
+        else:
+            walk += short_walk(rule, walk[-1], dice.one_of(inner))
+    return tuple(closed(rule, walk))
+
+
+def mirror_ring_of(rule, number, n, dice):
+    """The marks of a ring in a part that is its own mirror, mirrored at two axes, of about 2 * n places."""
+    mark, gap = dice.one_of(axis_spots(rule, number))
+    other, its_gap = dice.one_of(axis_spots(rule, number))
+    start = rule.mirrors[mark]
+    half = part_walk(rule, start, n, dice)
+    half += short_walk(rule, half[-1], other)
+    whole = half + back_of(rule, half)[1 - its_gap:]
+    return tuple(whole if gap else whole[:-1])
+
+
+def looked_at(ring, first, many):
+    """So many marks of a tuple as a ring from the place first on."""
+    return tuple(ring[(first + at) % len(ring)] for at in range(many))
+
+
+def halves_apart(one, other, n):
+    """How many halves two half places of a ring of n places are apart."""
+    off = (one - other) % (2 * n)
+    return min(off, 2 * n - off)
+
+
+def plain_is_tame(wide, marks):
+    """Whether the marks come again by one of the first 2 * wide periods."""
+    return any(marks[at:] == marks[:-at] for at in range(1, min(2 * wide, len(marks) - 1) + 1))
+
+
+def plain_wild(wide, marks):
+    """The wild places of a ring."""
+    return [
+        place for place in range(len(marks))
+        if not plain_is_tame(wide, looked_at(marks, place - 4 * wide, 8 * wide + 1))
+    ]
+
+
+def plain_centres(rule, wide, marks):
+    """The centres of a ring."""
+    found = []
+    for s in range(2 * len(marks)):
+        first = (s + 1) // 2 - 7 * wide
+        seen = looked_at(marks, first, 14 * wide + 1 - s % 2)
+        if list(seen) == back_of(rule, seen):
+            found.append(s)
+    return found
+
+
+def staircase(many, wide):
+    """A ring of the crowd of so many marks along which names rise long and then fall as long."""
+    up = [mark for mark in range(many) for _ in range(wide)]
+    return tuple(up + up[::-1][wide:-wide])
+
+
+def faults(owner, rule, other, plan, part, marks, told):
+    """Asserts that told is a ring of the other rule, in the part and of the classes that the plan tells."""
+    its, shift = plan[part]
+    of = dict(zip(parts(rule)[part], classes(rule, part)))
+    its_of = dict(zip(parts(other)[its], classes(other, its)))
+    owner.assertEqual(kind_of(told), (int,) * len(marks))
+    owner.assertTrue(is_walk(other, told + told[:1]))
+    owner.assertTrue(all(mark in its_of for mark in told))
+    owner.assertEqual([its_of[mark] for mark in told], [(of[mark] + shift) % period(other, its) for mark in marks])

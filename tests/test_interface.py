@@ -26,9 +26,27 @@ FUNCTIONS = {
         "least_period(marks)", "least_turn(marks)", "read_back(rule, marks)", "lesser(rule, marks)",
         "is_tame(span, marks)", "is_centre(rule, marks)",
     ),
+    "posts": ("posts(rule, span, ring)",),
+    "tables": (
+        "shows_table(rule, other, thing)", "told_by(table, ring)", "table_of(rule, other, far)",
+        "put_behind(rule, first, second)",
+    ),
+    "orders": (
+        "leads(rule, other)", "as_good(one, other)", "either(one, other)", "both(one, other)",
+        "plan_behind(rule, middle, other, first, second)",
+    ),
 }
-CLASSES = {"rules": {"Rule": ("__init__(self, mirrors, steps)", "marks(self)", "mirror(self, mark)",
-                              "behind(self, mark)")}}
+CLASSES = {
+    "rules": {
+        "Rule": ("__init__(self, mirrors, steps)", "marks(self)", "mirror(self, mark)", "behind(self, mark)"),
+    },
+    "lookers": {
+        "Looker": (
+            "__init__(self, rule, other, *, plan=None)", "reach(self)", "near(self, marks)",
+            "told(self, ring, place)", "told_all(self, ring)",
+        ),
+    },
+}
 
 
 class InterfaceTest(unittest.TestCase):
