@@ -35,6 +35,8 @@ FUNCTIONS = {
         "leads(rule, other)", "as_good(one, other)", "either(one, other)", "both(one, other)",
         "plan_behind(rule, middle, other, first, second)",
     ),
+    "showing": ("show_rule(rule)", "show_ring(ring)", "show_plan(plan)", "show_reason(reason)"),
+    "reading": ("read_rule(text)", "read_ring(text)", "read_plan(text)"),
 }
 CLASSES = {
     "rules": {
@@ -46,6 +48,13 @@ CLASSES = {
             "told(self, ring, place)", "told_all(self, ring)",
         ),
     },
+    "houses": {
+        "House": (
+            "__init__(self, rule, other, marks, *, plan=None)", "put(self, at, out, marks)", "back(self)", "marks(self)",
+            "deeds(self)", "told(self, place)", "told_all(self)", "moved(self)",
+        ),
+    },
+    "desk": {"Desk": ("__init__(self, rule, other)", "say(self, line)")},
 }
 
 
