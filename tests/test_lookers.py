@@ -9,7 +9,7 @@ from ringvouch.judging import judged
 from ringvouch.lookers import Looker
 from ringvouch.names import read_back
 from ringvouch.parts import mirror_part, part_of, parts
-from ringvouch.rings import around, is_ring, mirrored, turned
+from ringvouch.rings import around, is_ring, mirrored, places, turned
 from ringvouch.rules import Rule, one_way_rule, plain_rule
 from ringvouch.spans import doublings, span
 from tests.samples import (
@@ -216,6 +216,19 @@ class GreatRingsTest(unittest.TestCase):
             midst = [looker.told(great, many // 2 + at) for at in range(10)]
             self.assertTrue(all(pair in SLOW.steps for pair in zip(midst, midst[1:])))
 
+    def test_each_place_on_the_way_from_a_knot_to_a_stretch(self):
+        # Of the next knot on the other side nothing can be seen from there.
+        for other in (SLOW, crowd(2), two_wheels(1, 3)):
+            looker = Looker(crowd(3), other)
+            wide = greatest_span(looker)
+            far = looker.reach()
+            for cycle, knot in (((0,), (1,)), ((0, 1, 2), (2, 2, 0)), ((0, 0, 1), (2,))):
+                small = ((3 * far // len(cycle), cycle), (1, knot))
+                n = places(small)
+                told = looker.told_all(small)
+                for place in range(-wide * (doublings(wide) + 4), wide * (doublings(wide) + 4)):
+                    self.assertEqual(looker.told(((10 ** 29, cycle), (1, knot)), place), told[place % n])
+
     def test_told_is_near_of_the_marks_around(self):
         looker = Looker(crowd(3), SLOW)
         ring = ((10 ** 29, (0, 1)), (3, (2, 1, 1)), (10 ** 28, (2,)))
@@ -374,6 +387,10 @@ class RefusalsTest(unittest.TestCase):
             self.assertIn(looker.told(ring, 17), (0, 1))
         with self.assertRaises(NoRing):
             looker.told_all(((3001, (0,)),))
+        looker = Looker(crowd(1), SLOW)
+        self.assertEqual(len(looker.told_all(((2999, (0,)), (1, (0,))))), 3000)
+        with self.assertRaises(TooMany):
+            looker.told_all(((3000, (0,)), (1, (0,))))
 
     def test_arguments_by_name_and_unchanged(self):
         looker = Looker(crowd(3), SLOW)

@@ -1,13 +1,15 @@
 """Point 16: posts; and point 3 (b), as far as posts are found by looks near by."""
 
 import copy
+import itertools
 import unittest
 
 from ringvouch.errors import RingError, TooMany
 from ringvouch.parts import parts
-from ringvouch.posts import posts
+from ringvouch.posts import number_of, posts, shortened
 from ringvouch.rings import mirrored, turned
 from ringvouch.rules import one_way_rule, plain_rule
+from ringvouch.sights import text_of
 from ringvouch.spans import doublings
 from tests.samples import (
     Dice, back_of, closed, crowd, gaps_alone, halves_apart, kind_of, mirror_ring_of, mixed_ring, no_axes, part_walk,
@@ -149,6 +151,34 @@ class PostsTest(unittest.TestCase):
             tail = tuple(dice.below(8) for _ in range(60))
             self.is_right(crowd(8), wide, up + tail, 7)
             self.is_right(crowd(8), wide, tail + up[::-1], 7)
+
+    def test_every_turn(self):
+        dice = Dice(12)
+        for wide in (2, 3, 4, 5, 9):
+            rings = [tuple(dice.below(2) for _ in range(130)), mirror_ring_of(THREE, 0, 50, dice)]
+            for rule, marks in [(THREE, ring) for ring in rings] + [(crowd(8), staircase(8, 8))]:
+                n = len(marks)
+                found = posts(rule, wide, ((1, marks),))
+                for by in range(1, n, 1 + wide // 3):
+                    turn = ((1, marks[by:] + marks[:by]),)
+                    self.assertEqual(set(posts(rule, wide, turn)), {(s - 2 * by) % (2 * n) for s in found})
+
+    def test_numbers_that_are_long_in_getting_short(self):
+        # Each number leads on to the one behind it; of the first one a shortening less leaves a number above 5.
+        names = [2 ** 130 + 1, 2 ** 129 + 3, 2 ** 128, 0]
+        numbers = shortened(names, [[1], [2], [3], []])
+        self.assertTrue(all(0 <= number < 6 for number in numbers))
+        self.assertTrue(all(one != other for one, other in zip(numbers, numbers[1:])))
+        dice = Dice(13)
+        for _ in range(300):
+            names = sorted({dice.below(2 ** 31) << dice.below(2000) for _ in range(30)})
+            numbers = shortened(names, [[]] + [[at] for at in range(len(names) - 1)])
+            self.assertTrue(all(0 <= number < 6 for number in numbers))
+            self.assertTrue(all(one != other for one, other in zip(numbers, numbers[1:])))
+
+    def test_names_of_unlike_marks_are_unlike(self):
+        rows = [row for n in range(1, 4) for row in itertools.product(range(8), repeat=n)]
+        self.assertEqual([number_of(text_of(row)) for row in rows], [int(text_of(row), 8) for row in rows])
 
     def test_wide_spans(self):
         dice = Dice(6)

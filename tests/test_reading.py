@@ -91,6 +91,8 @@ class RuleTest(NoTextTest):
         self.refused("marks 4\nstep 1 1\nstep 0 0", 2)
         self.refused("marks 4\nstep 1 1\nstep 1 0", 2)
         self.refused("marks 4\nmirror 2 3\nmirror 0 1", 2)
+        self.refused("marks 4\nstep 0 0\nstep 2 2\nstep 1 1\nstep 3 3", 3)
+        self.refused("marks 8\nmirror 0 7\nmirror 2 3\nmirror 1 4", 3)
         self.refused("marks 4\nmirror 0 1\nmirror 0 1", 2)
         self.assertEqual(read_rule("marks 4\nstep 0 3\nstep 1 1\nstep 3 0").steps, ((0, 3), (1, 1), (3, 0)))
 

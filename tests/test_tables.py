@@ -125,6 +125,9 @@ class ShowsTableTest(unittest.TestCase):
                 ("table", 10 ** 29, rows), table + ("",),
             ):
                 self.assertIs(shows_table(rule, rule, other), False, other)
+        self.assertIs(shows_table(EDGE, EDGE, identity(EDGE, 2)), True)
+        self.assertIs(shows_table(EDGE, EDGE, identity(EDGE, 3)), False)
+        self.assertIs(shows_table(NONE, NONE, ("table", 3, ())), False)
         self.assertIs(shows_table(rule, rule, ("table", True, identity(rule, 1)[2])), False)
         self.assertIs(shows_table(rule, rule, ("table", False, identity(rule, 0)[2])), False)
 
