@@ -14,10 +14,16 @@ def solved(rule, names, links, mirrors):
     for one, other in mirrors:
         ties[one].append((other, facing))
         ties[other].append((one, facing))
-    found = settled({name: every for name in names}, ties, names)
+    able = {name: [mark for mark in every if fits_itself(mark, name, ties[name])] for name in names}
+    found = settled(able, ties, names)
     if found is None:
         return None
     return {name: found[name][0] for name in names}
+
+
+def fits_itself(mark, name, tied):
+    """Whether the mark can be had by the name as far as that is tied to itself."""
+    return all([mark in fitting[mark] for other, fitting in tied if other == name])
 
 
 def settled(able, ties, changed):

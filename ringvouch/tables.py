@@ -1,6 +1,7 @@
 """Tables: which mark is told for the marks around a place, row by row; right ones, found and put behind one another."""
 
 from ringvouch.errors import TooFar, TooMany
+from ringvouch.judging import judged
 from ringvouch.kinds import are_marks, is_below, is_pair
 from ringvouch.names import read_back
 from ringvouch.parts import mirror_part, parts
@@ -78,6 +79,9 @@ def table_of(rule, other, far):
     """A right table from the rule to the other one that looks so far, None where there is none."""
     if len(walks_in_parts(rule, 2 * far)) > MOST_ROWS:
         raise TooMany("tables of at most 27 rows are looked for")
+    # Where there is a table there is a plan; the search for one that isn't there can be long.
+    if judged(rule, other)[0] == "none":
+        return None
     found = {}
     for part, marks in enumerate(parts(rule)):
         # A part and its mirror part hang together and no two others do, so each such pair is solved by itself.

@@ -227,6 +227,7 @@ class TableOfTest(unittest.TestCase):
                         table = table_of(rule, other, far)
                         wanted = self.there_is_one(rule, other, far)
                         self.assertEqual(table is not None, wanted)
+                        self.assertTrue(not wanted or judged(rule, other)[0] == "plan")
                         seen.add((far, wanted))
                         if table is not None:
                             self.is_right(rule, other, far, table)
