@@ -65,13 +65,12 @@ class Weaver:
         return min([mark for mark in able if is_at_axis(self.other, mark, s % 2)])
 
     def weave(self, sight, one, two, bounds, told):
-        """Puts into told, by places, what is told between two stops; None is a post that is too far to be seen."""
+        """Puts into told, by places, what is told from the last place of a stop to the first one of the next one."""
+        # None stands for a post that is too far to be seen.
         if one is not None and two is not None and two[0] - one[1] < self.far():
-            lay(told, one[0], (one[2],))
             lay(told, one[1], self.between(sight, one, two))
-            lay(told, two[1], (two[3],))
-            return
-        self.weave_far(sight, one, two, bounds, told)
+        else:
+            self.weave_far(sight, one, two, bounds, told)
 
     def between(self, sight, one, two):
         """The walk from the last mark of a stop to the first one of the next one, which is near."""
@@ -109,11 +108,9 @@ class Weaver:
         for place in range(max(first, bounds[0]), min(end, bounds[1])):
             told[place] = round_told[(place - anchor) % many]
         if one is not None:
-            lay(told, one[0], (one[2],))
             lay(told, one[1], least_walk(self.other, one[3], round_told[(first - anchor) % many], self.ramp()))
         if two is not None:
             lay(told, end - 1, self.walk_back(two[2], round_told[(end - 1 - anchor) % many], self.ramp()))
-            lay(told, two[1], (two[3],))
 
     def ring_at(self, sight, place):
         """What is told from a tame place on, as far as its least period goes."""
